@@ -1,0 +1,1 @@
+"""Allhits: families of sets, what meets them, and votes."""

@@ -1,0 +1,118 @@
+"""The form of the package's files, as far as a walk through them can see it."""
+
+import ast
+import builtins
+import re
+import unittest
+from pathlib import Path
+
+PACKAGE = Path(__file__).resolve().parent.parent / "allhits"
+
+NODES = """Module FunctionDef ClassDef Return Assign AugAssign For While If Raise Try ExceptHandler ImportFrom alias Expr
+    Pass Break Continue BoolOp And Or BinOp Add Sub Mult FloorDiv Mod Pow LShift RShift BitOr BitXor BitAnd UnaryOp
+    Invert Not USub UAdd Lambda IfExp Dict List Tuple Set ListComp comprehension Compare Eq NotEq Lt LtE Gt GtE Is IsNot
+    In NotIn Call keyword FormattedValue JoinedStr Constant Attribute Subscript Slice Name Load Store arguments
+    arg""".split()
+
+BUILT_IN = """len range enumerate zip min max sum abs sorted reversed int str bool list tuple dict set frozenset
+    isinstance ord repr any all divmod Exception ValueError KeyError IndexError LookupError ZeroDivisionError
+    ArithmeticError OverflowError RuntimeError NotImplementedError StopIteration""".split()
+
+BANNED_WORDS = """type typing typing_extensions enum Enum IntEnum StrEnum Flag IntFlag Generic Protocol ABC ABCMeta
+    namedtuple NamedTuple TypedDict TYPE_CHECKING abstractmethod""".split()
+
+TWO_UNDERSCORES = ["__init__", "__eq__", "__repr__", "__str__", "__len__", "__all__", "__version__"]
+
+
+def files():
+    return sorted(path for path in PACKAGE.rglob("*") if path.is_file() and "__pycache__" not in path.parts)
+
+
+def trees():
+    return [(path.name, ast.parse(path.read_text("ascii"))) for path in files()]
+
+
+def bound_names(tree):
+    """Every name that a file binds, with its row."""
+    for node in ast.walk(tree):
+        if isinstance(node, (ast.FunctionDef, ast.ClassDef)):
+            yield node.name, node.lineno
+        elif isinstance(node, ast.arg):
+            yield node.arg, node.lineno
+        elif isinstance(node, ast.Name) and isinstance(node.ctx, ast.Store):
+            yield node.id, node.lineno
+
+
+class TestLanguage(unittest.TestCase):
+    def test_files_have_plain_names(self):
+        self.assertIn("__init__.py", [path.name for path in files()])
+        for path in files():
+            self.assertRegex(path.name, r"\A(__init__|__main__|[a-z][a-z0-9_]*)\.py\Z")
+
+    def test_signs_and_sizes(self):
+        for path in files():
+            text = path.read_text("ascii")
+            self.assertRegex(text, r"\A[\n -~]*\Z", path.name)
+            rows = text.splitlines()
+            self.assertLessEqual(len(rows), 400, path.name)
+            self.assertLessEqual(max(len(row) for row in rows), 120, path.name)
+
+    def test_words_that_stand_nowhere(self):
+        for path in files():
+            text = path.read_text("ascii")
+            self.assertEqual([w for w in BANNED_WORDS if re.search(rf"\b{w}\b", text)], [], path.name)
+            self.assertIsNone(re.search("dataclass|overload|contextmanager", text), path.name)
+
+    def test_forms(self):
+        for name, tree in trees():
+            for node in ast.walk(tree):
+                where = (name, getattr(node, "lineno", 0), type(node).__name__)
+                self.assertIn(type(node).__name__, NODES, where)
+                if isinstance(node, ast.FunctionDef):
+                    self.assertLessEqual(node.end_lineno - node.lineno + 1, 40, where)
+                    self.assertEqual(node.decorator_list, [], where)
+                if isinstance(node, ast.Constant):
+                    self.assertIsInstance(node.value, (int, str, type(None)), where)
+                if isinstance(node, (ast.For, ast.While)):
+                    self.assertEqual(node.orelse, [], where)
+                if isinstance(node, ast.BinOp) and isinstance(node.op, ast.Pow):
+                    self.assertIsInstance(node.right, ast.Constant, where)
+                if isinstance(node, ast.Compare) and isinstance(node.ops[0], (ast.Is, ast.IsNot)):
+                    self.assertIn(ast.unparse(node.comparators[0]), ["None", "True", "False"], where)
+
+    def test_words_by_themselves_stand_at_the_top_of_a_file_alone(self):
+        for name, tree in trees():
+            self.assertIsNotNone(ast.get_docstring(tree), name)
+            for node in ast.walk(tree):
+                if isinstance(node, ast.Expr) and not isinstance(node.value, ast.Call):
+                    self.assertIs(node, tree.body[0], (name, node.lineno))
+
+    def test_imports_are_the_packages_own(self):
+        for name, tree in trees():
+            for node in ast.walk(tree):
+                if isinstance(node, ast.ImportFrom):
+                    where = (name, node.lineno)
+                    self.assertEqual(node.level, 0, where)
+                    self.assertRegex(node.module, r"\Aallhits\.[a-z_]+\Z", where)
+                    self.assertNotIn("*", [alias.name for alias in node.names], where)
+                    self.assertIn(node, tree.body, where)
+
+    def test_names(self):
+        for name, tree in trees():
+            imported = [alias.name for node in tree.body if isinstance(node, ast.ImportFrom) for alias in node.names]
+            for bound, row in bound_names(tree):
+                self.assertNotIn(bound, dir(builtins), (name, row))
+                self.assertNotIn(bound, imported, (name, row))
+                if bound not in TWO_UNDERSCORES:
+                    self.assertRegex(bound, r"\A[A-Za-z][A-Za-z0-9_]*\Z", (name, row))
+
+    def test_built_in_names(self):
+        for name, tree in trees():
+            own = [bound for bound, row in bound_names(tree)]
+            for node in ast.walk(tree):
+                if isinstance(node, ast.Name) and node.id not in own and node.id in dir(builtins):
+                    self.assertIn(node.id, BUILT_IN, (name, node.lineno))
+
+
+if __name__ == "__main__":
+    unittest.main()
