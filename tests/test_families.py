@@ -69,14 +69,22 @@ class TestIsFamily(unittest.TestCase):
 
     def test_wrong_things_at_any_place(self):
         for many in range(9):
-            for family in ([], [0], list(range(2 ** many))[:69][-4:], list(range(2 ** many))[:69]):
-                for place in {0, 1, len(family) // 2, len(family) - 1, len(family)} & set(range(len(family) + 1)):
-                    for wrong in plain.no_numbers() + plain.far_numbers() + [2 ** many, 2 ** many + 1]:
-                        self.hold_wrong(many, family[:place] + [wrong] + family[place:])
-                        self.hold_wrong(many, family[:place] + [wrong] + family[place + 1:])
+            wrong_things = plain.no_numbers() + plain.far_numbers() + [2 ** many, 2 ** many + 1]
+            for family in ([], [0], list(plain.ground(many))[-4:]):
+                self.hold_wrong_at_each_place(many, family, wrong_things)
 
-    def hold_wrong(self, many, thing):
-        self.assertIs(is_family(many, thing), False, (many, thing))
+    def test_wrong_things_at_any_place_of_many(self):
+        wrong_things = [True, False, None, "1", [1], (1,), 1.0, -1, 256, plain.far_numbers()[-1]]
+        for family in (list(range(69)), list(range(187, 256)), plain.of_size(8, 4)[:69]):
+            self.hold_wrong_at_each_place(8, family, wrong_things)
+
+    def hold_wrong_at_each_place(self, many, family, wrong_things):
+        for place in range(len(family) + 1):
+            for wrong in wrong_things:
+                put_between = family[:place] + [wrong] + family[place:]
+                put_instead = family[:place] + [wrong] + family[place + 1:]
+                self.assertIs(is_family(many, put_between), False, (many, put_between))
+                self.assertIs(is_family(many, put_instead), False, (many, put_instead))
 
     def test_truths_where_their_numbers_would_do(self):
         for thing in ([False], [True], [False, 1], [0, True], [0, True, 2], [False, True]):
