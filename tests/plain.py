@@ -35,10 +35,28 @@ def meets_all(family, had):
     return all(had & names(other) for other in family)
 
 
+def number(had):
+    """The set with just these names."""
+    return sum(2 ** k for k in had)
+
+
+def rest(many, one):
+    return number(frozenset(range(many)) - names(one))
+
+
+def rests(many, family):
+    return sorted(rest(many, one) for one in family)
+
+
 def hits(many, family):
     """By [8]: the sets that meet the family and hold no other set that does."""
+    return list(hits_kept(many, tuple(family)))
+
+
+@lru_cache(maxsize=None)
+def hits_kept(many, family):
     meeting = [s for s in ground(many) if meets_all(family, names(s))]
-    return least(meeting)
+    return tuple(least(meeting))
 
 
 def looked(family, one):
@@ -55,6 +73,101 @@ def looked(family, one):
         alone = [other for other in family if had & names(other) == {k}]
         own.append((k, alone[0]))
     return ("least", own)
+
+
+def left_out(many, one, other):
+    """The sets that hold no set of the one and whose rests hold no set of the other."""
+    return list(left_out_kept(many, tuple(one), tuple(other)))
+
+
+@lru_cache(maxsize=None)
+def left_out_kept(many, one, other):
+    return tuple(s for s in ground(many) if not says(one, s) and not says(other, rest(many, s)))
+
+
+def held(many, one, other):
+    """By [11], in the order in which it is told."""
+    for a in one:
+        for b in other:
+            if not names(a) & names(b):
+                return ("apart", a, b)
+    left = left_out(many, one, other)
+    return ("neither", left[0]) if left else ("each",)
+
+
+def good(many, one, other, paper, taken_in=frozenset(), taken_out=frozenset()):
+    """By [12], of whatever thing."""
+    if type(paper) is not tuple or len(paper) not in (2, 4):
+        return False
+    if type(paper[0]) is not str or type(paper[1]) is not int:
+        return False
+    word, k = paper[:2]
+    if (word, len(paper)) == ("one", 2):
+        return k in range(len(one)) and names(one[k]) <= taken_in
+    if (word, len(paper)) == ("other", 2):
+        return k in range(len(other)) and names(other[k]) <= taken_out
+    if (word, len(paper)) != ("name", 4) or k not in range(many) or k in taken_in or k in taken_out:
+        return False
+    first = good(many, one, other, paper[2], taken_in | {k}, taken_out)
+    second = good(many, one, other, paper[3], taken_in, taken_out | {k})
+    return first and second
+
+
+def rises(many, table):
+    """By [14]: yes of each set that holds one of which it says yes."""
+    said = [s for s in ground(many) if table[s]]
+    return all(table[t] for s in said for t in ground(many) if names(s) <= names(t))
+
+
+def falls(many, table):
+    """By [14]: the first yes set that a name turns to no, and its first such name."""
+    if rises(many, table):
+        return None
+    for s in ground(many):
+        for k in range(many):
+            if table[s] and k not in names(s) and not table[number(names(s) | {k})]:
+                return (s, k)
+    raise AssertionError("a table that doesn't rise falls somewhere")
+
+
+def yeses(many, table):
+    return least([s for s in ground(many) if table[s]])
+
+
+def noes(many, table):
+    return greatest([s for s in ground(many) if not table[s]])
+
+
+def table_of(many, family):
+    return [says(family, s) for s in ground(many)]
+
+
+def table_of_noes(many, family):
+    return [not any(names(s) <= names(other) for other in family) for s in ground(many)]
+
+
+def always_in(family, k):
+    return least([number(names(one) - {k}) for one in family])
+
+
+def always_out(family, k):
+    return [one for one in least(family) if k not in names(one)]
+
+
+def either(one, other):
+    return least(one + other)
+
+
+def both(one, other):
+    return least({number(names(a) | names(b)) for a in one for b in other})
+
+
+def exchanged_set(order, one):
+    return number({order[k] for k in names(one)})
+
+
+def exchanged(order, family):
+    return sorted(exchanged_set(order, one) for one in family)
 
 
 def of_size(many, size):
@@ -95,6 +208,81 @@ def families(many):
         yield from all_families(many)
     else:
         yield from some_families(many, 300, many)
+
+
+def neighbours(many, family, chance):
+    """The family with one left out, one put to it, one made lesser or greater by a name; at most 70 sets each."""
+    told = []
+    for one in chance.sample(family, min(len(family), 3)):
+        others = [other for other in family if other != one]
+        told.append(others)
+        if one > 0:
+            told.append(others + [number(names(one) - {chance.choice(sorted(names(one)))})])
+        if one < 2 ** many - 1:
+            told.append(others + [number(names(one) | {chance.choice(sorted(names(rest(many, one))))})])
+    lacking = [s for s in ground(many) if s not in family]
+    told.extend(family + [one] for one in chance.sample(lacking, min(len(lacking), 3)))
+    return [sorted(set(some)) for some in told if len(some) <= 70]
+
+
+def pairs_around(many, family, chance):
+    """The family with its hits, whole, with neighbours of the one or the other, and with some of them alone."""
+    met = hits(many, family)
+    told = [(family, met), (least(family), met)]
+    told.extend((family, some) for some in neighbours(many, met, chance))
+    told.extend((some, met) for some in neighbours(many, family, chance))
+    told.append((family, sorted(chance.sample(met, chance.randint(0, len(met))))))
+    told.append((sorted(chance.sample(family, chance.randint(0, len(family)))), met))
+    return told + [(other, one) for one, other in told]
+
+
+def pairs(many):
+    """Pairs of families: all of a small ground; the edges with one another, drawn ones, and ones about their hits.
+
+    The lists are made anew each time, so that one that is changed in one test is as it was in the next.
+    """
+    return [(list(one), list(other)) for one, other in pairs_kept(many)]
+
+
+@lru_cache(maxsize=None)
+def pairs_kept(many):
+    chance = Random(many + 400)
+    edges = edge_families(many)
+    told = [(one, other) for one in edges for other in edges]
+    if many <= 2:
+        told.extend((one, other) for one in all_families(many) for other in all_families(many))
+    told.extend(zip(some_families(many, 100, many + 100), some_families(many, 100, many + 200)))
+    for family in edges + list(some_families(many, 25, many + 300)):
+        told.extend(pairs_around(many, family, chance))
+    return tuple(told)
+
+
+def all_tables(many):
+    """Every table of a ground of at most four names."""
+    places = list(ground(many))
+    for code in range(2 ** len(places)):
+        yield [code // 2 ** s % 2 == 1 for s in places]
+
+
+def tables_that_rise(many):
+    """Every one of a small ground, those of many families of a greater one, the edges always."""
+    if many <= 3:
+        return [table for table in all_tables(many) if rises(many, table)]
+    return [table_of(many, family) for family in edge_families(many) + list(some_families(many, 150, many + 500))]
+
+
+def tables(many):
+    """Every table of a small ground; of a greater one some that rise, some put otherwise here and there, drawn ones."""
+    if many <= 3:
+        return list(all_tables(many))
+    chance = Random(many + 600)
+    told = tables_that_rise(many)
+    for table in list(told):
+        turned = chance.sample(ground(many), chance.randint(1, 3))
+        told.append([table[s] != (s in turned) for s in ground(many)])
+    for turn in range(80):
+        told.append([chance.randint(0, turn) > 0 for s in ground(many)])
+    return told
 
 
 def no_numbers():

@@ -21,6 +21,10 @@ BUILT_IN = """len range enumerate zip min max sum abs sorted reversed int str bo
 BANNED_WORDS = """type typing typing_extensions enum Enum IntEnum StrEnum Flag IntFlag Generic Protocol ABC ABCMeta
     namedtuple NamedTuple TypedDict TYPE_CHECKING abstractmethod""".split()
 
+METHODS = """append clear copy count endswith extend find get index insert isalnum isalpha isdigit islower isspace
+    isupper items join keys ljust lower lstrip partition pop remove replace reverse rfind rjust rpartition rsplit rstrip
+    setdefault split splitlines startswith strip update upper values zfill bit_length""".split()
+
 TWO_UNDERSCORES = ["__init__", "__eq__", "__repr__", "__str__", "__len__", "__all__", "__version__"]
 
 
@@ -79,6 +83,35 @@ class TestLanguage(unittest.TestCase):
                     self.assertIsInstance(node.right, ast.Constant, where)
                 if isinstance(node, ast.Compare) and isinstance(node.ops[0], (ast.Is, ast.IsNot)):
                     self.assertIn(ast.unparse(node.comparators[0]), ["None", "True", "False"], where)
+
+    def test_comprehensions_and_assignments_have_one_part(self):
+        for name, tree in trees():
+            for node in ast.walk(tree):
+                if isinstance(node, ast.ListComp):
+                    self.assertEqual(len(node.generators), 1, (name, node.lineno))
+                    self.assertLessEqual(len(node.generators[0].ifs), 1, (name, node.lineno))
+                if isinstance(node, ast.Assign):
+                    self.assertEqual(len(node.targets), 1, (name, node.lineno))
+                    self.assertNotIsInstance(node.targets[0], (ast.Tuple, ast.List), (name, node.lineno))
+
+    def test_methods_are_the_packages_own_or_listed_ones(self):
+        nodes = [(name, node) for name, tree in trees() for node in ast.walk(tree)]
+        own = [part.name for name, node in nodes if isinstance(node, ast.ClassDef)
+               for part in node.body if isinstance(part, ast.FunctionDef)]
+        own.extend(node.attr for name, node in nodes
+                   if isinstance(node, ast.Attribute) and isinstance(node.ctx, ast.Store))
+        for name, node in nodes:
+            if isinstance(node, ast.Attribute):
+                self.assertIn(node.attr, METHODS + own, (name, node.lineno))
+
+    def test_no_two_files_draw_from_one_another(self):
+        drawn = {f"allhits.{name[:-3]}": {node.module for node in tree.body if isinstance(node, ast.ImportFrom)}
+                 for name, tree in trees()}
+        while drawn:
+            free = [name for name, modules in drawn.items() if not modules & set(drawn)]
+            self.assertTrue(free, drawn)
+            for name in free:
+                drawn.pop(name)
 
     def test_words_by_themselves_stand_at_the_top_of_a_file_alone(self):
         for name, tree in trees():
