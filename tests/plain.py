@@ -3,6 +3,7 @@
 Names are kept here as Python's frozensets, never as bits, so that nothing is shared with the program.
 """
 
+import re
 from functools import lru_cache
 from itertools import combinations
 from random import Random
@@ -170,6 +171,205 @@ def exchanged(order, family):
     return sorted(exchanged_set(order, one) for one in family)
 
 
+@lru_cache(maxsize=None)
+def put_to(one, k):
+    """The set with the name k put to it."""
+    return number(names(one) | {k})
+
+
+@lru_cache(maxsize=None)
+def table_kept(many, family):
+    return tuple(table_of(many, family))
+
+
+def parting(many, family, x, y):
+    """By [20]: the sets at which x parts them."""
+    said = table_kept(many, tuple(family))
+    neither = [s for s in ground(many) if x not in names(s) and y not in names(s)]
+    return [s for s in neither if said[put_to(s, x)] and not said[put_to(s, y)]]
+
+
+def compared(many, family, x, y):
+    """By [20]."""
+    by_x, by_y = parting(many, family, x, y), parting(many, family, y, x)
+    if by_x and by_y:
+        return ("apart", by_x[0], by_y[0])
+    if by_x:
+        return ("heavier", by_x[0])
+    return ("lighter", by_y[0]) if by_y else ("alike",)
+
+
+def turns(many, family):
+    """By [21]."""
+    said = table_kept(many, tuple(family))
+    return [sum(k not in names(s) and not said[s] and said[put_to(s, k)] for s in ground(many)) for k in range(many)]
+
+
+def ranks(many, family):
+    """By [22], from the comparisons alone: again and again those that no other one of the left ones is heavier than."""
+    for x, y in combinations(range(many), 2):
+        told = compared(many, family, x, y)
+        if told[0] == "apart":
+            return ("apart", x, y) + told[1:]
+    left, lists = list(range(many)), []
+    while left:
+        top = [x for x in left if all(compared(many, family, x, y)[0] != "lighter" for y in left if y != x)]
+        lists.append(top)
+        left = [x for x in left if x not in top]
+    return ("ranks", lists)
+
+
+def weight_of(weights, one):
+    return sum(weight for k, weight in enumerate(weights) if k in names(one))
+
+
+def voted(weights, bar):
+    """By [23]."""
+    return least([s for s in ground(len(weights)) if weight_of(weights, s) >= bar])
+
+
+def bears_out(many, family, told):
+    """By [24]: whether what is told are weights and a bar that tell what the family says, or a trade."""
+    said = table_kept(many, tuple(family))
+    if told[0] == "weights":
+        word, weights, bar = told
+        whole = all(type(weight) is int and weight >= 0 for weight in weights) and type(bar) is int
+        return (type(weights) is list and len(weights) == many and whole
+                and all(said[s] == (weight_of(weights, s) >= bar) for s in ground(many)))
+    word, yes, no = told
+    as_often = all(sum(k in names(s) for s in yes) == sum(k in names(s) for s in no) for k in range(many))
+    return (word == "trade" and type(yes) is list and type(no) is list and len(yes) == len(no) >= 1 and as_often
+            and all(type(s) is int and s in ground(many) for s in yes + no)
+            and all(said[s] for s in yes) and not any(said[s] for s in no))
+
+
+def is_word(text):
+    return re.fullmatch("[a-z]{1,8}", text) is not None
+
+
+def names_read(text):
+    """By [25] and [26]: a list of words, or None for what is refused."""
+    if type(text) is not str:
+        return None
+    words = text.split(" ") if text else []
+    right = all(is_word(word) and word != "none" for word in words)
+    return words if right and len(words) <= 8 and len(set(words)) == len(words) else None
+
+
+def set_shown(words, one):
+    return "+".join(word for k, word in enumerate(words) if k in names(one)) or "-"
+
+
+def family_shown(words, family):
+    return " ".join(set_shown(words, one) for one in family) or "none"
+
+
+def set_read(words, text):
+    """By [26]: the set that is written just so, or None for what is refused."""
+    return sets_by_text(tuple(words)).get(text) if type(text) is str else None
+
+
+@lru_cache(maxsize=None)
+def sets_by_text(words):
+    return {set_shown(words, one): one for one in ground(len(words))}
+
+
+def family_read(words, text):
+    """By [26]: the family that is written just so, or None for what is refused."""
+    if type(text) is not str:
+        return None
+    family = [] if text == "none" else [set_read(words, part) for part in text.split(" ")]
+    if None in family or family != sorted(set(family)) or len(family) > 70:
+        return None
+    return family
+
+
+class Desk:
+    """By [27], of a readable text of names: each row is answered with a text, or with the name of what refuses it.
+
+    Of the row `weights A` it tells the family, as what is told of it is free.
+    """
+
+    forms = {"let": "NT", "hits": "NA", "rests": "NA", "either": "NAA", "both": "NAA", "in": "NAX", "out": "NAX",
+             "show": "A", "says": "AS", "look": "AS", "held": "AA", "compare": "AXX", "turns": "A", "ranks": "A",
+             "weights": "A"}
+
+    def __init__(self, text):
+        self.words = names_read(text)
+        self.many = len(self.words)
+        self.kept = {}
+
+    def say(self, row):
+        if type(row) is not str:
+            return "NoDeed"
+        deed, *parts = row.split(" ")
+        if deed == "let" and len(parts) > 2:
+            parts = [parts[0], " ".join(parts[1:])]
+        if deed not in self.forms or len(parts) != len(self.forms[deed]):
+            return "NoDeed"
+        for sign, part in zip(self.forms[deed], parts):
+            refused = self.refused(sign, part)
+            if refused:
+                return refused
+        if deed == "compare" and parts[1] == parts[2]:
+            return "NoText"
+        if self.forms[deed][0] == "N":
+            if parts[0] not in self.kept and len(self.kept) == 20:
+                return "Full"
+            self.kept[parts[0]] = self.made(deed, parts[1:])
+            return "ok"
+        return self.answered(deed, self.kept[parts[0]], parts[1:])
+
+    def refused(self, sign, part):
+        if sign == "A":
+            return None if part in self.kept else "NoFamily"
+        right = {"N": lambda: is_word(part), "X": lambda: part in self.words,
+                 "S": lambda: set_read(self.words, part) is not None,
+                 "T": lambda: family_read(self.words, part) is not None}
+        return None if right[sign]() else "NoText"
+
+    def made(self, deed, parts):
+        if deed == "let":
+            return family_read(self.words, parts[0])
+        family = self.kept[parts[0]]
+        return {"hits": lambda: hits(self.many, family), "rests": lambda: rests(self.many, family),
+                "either": lambda: either(family, self.kept[parts[1]]),
+                "both": lambda: both(family, self.kept[parts[1]]),
+                "in": lambda: always_in(family, self.words.index(parts[1])),
+                "out": lambda: always_out(family, self.words.index(parts[1]))}[deed]()
+
+    def answered(self, deed, family, parts):
+        if deed == "weights":
+            return family
+        if deed == "says":
+            return "yes" if says(family, set_read(self.words, parts[0])) else "no"
+        if deed == "look":
+            return self.looked_shown(looked(family, set_read(self.words, parts[0])))
+        if deed == "ranks":
+            return self.ranks_shown(ranks(self.many, family))
+        if deed == "turns":
+            return " ".join(str(count) for count in turns(self.many, family))
+        if deed == "show":
+            return family_shown(self.words, family)
+        if deed == "held":
+            told = held(self.many, family, self.kept[parts[0]])
+        else:
+            told = compared(self.many, family, self.words.index(parts[0]), self.words.index(parts[1]))
+        return " ".join([told[0]] + [set_shown(self.words, one) for one in told[1:]])
+
+    def looked_shown(self, told):
+        if told[0] == "misses":
+            return f"misses {set_shown(self.words, told[1])}"
+        if told[0] == "spare":
+            return f"spare {self.words[told[1]]}"
+        return " ".join(["least"] + [f"{self.words[k]}:{set_shown(self.words, other)}" for k, other in told[1]])
+
+    def ranks_shown(self, told):
+        if told[0] == "apart":
+            return f"apart {self.words[told[1]]} {self.words[told[2]]}"
+        return " ".join(["ranks"] + ["=".join(self.words[k] for k in some) for some in told[1]])
+
+
 def of_size(many, size):
     """All sets of the ground with so many names, rising."""
     return sorted(sum(2 ** k for k in some) for some in combinations(range(many), size))
@@ -283,6 +483,42 @@ def tables(many):
     for turn in range(80):
         told.append([chance.randint(0, turn) > 0 for s in ground(many)])
     return told
+
+
+def least_families(many):
+    """Every family of a ground of at most five names that is its own least sets."""
+    for table in risen_tables(many):
+        yield least([s for s in ground(many) if table[s]])
+
+
+def risen_tables(many):
+    """Every table that rises: what is said without the last name, then, no less of it, with the last name."""
+    if many == 0:
+        return [(False,), (True,)]
+    before = risen_tables(many - 1)
+    return [low + high for low in before for high in before if all(a <= b for a, b in zip(low, high))]
+
+
+def drawn_votes(many, how_many, seed):
+    """Weights and bars: many alike, noughts, great ones; bars below 0, 0, in between, about the sum and beyond."""
+    chance = Random(seed)
+    for turn in range(how_many):
+        most = (1, 2, 4, 9, 30, 10 ** 40)[turn % 6]
+        weights = [chance.randint(0, most) for k in range(many)]
+        sum_of_all = sum(weights)
+        bars = [chance.randint(0, sum_of_all + 1), (sum_of_all + 1) // 2, -chance.randint(1, most), 0, 1, sum_of_all,
+                sum_of_all + 1, sum_of_all + 7]
+        yield weights, bars[0] if turn % 4 else bars[turn // 4 % len(bars)]
+
+
+def vote_families(many, how_many, seed):
+    """Families that go by weights, some of them with sets that aren't least put to them."""
+    chance = Random(seed)
+    for weights, bar in drawn_votes(many, how_many, seed):
+        family = voted(weights, bar)
+        above = [s for s in ground(many) if s not in family and says(family, s)]
+        more = chance.sample(above, min(len(above), chance.randint(0, 3), 70 - len(family)))
+        yield sorted(family + more)
 
 
 def no_numbers():

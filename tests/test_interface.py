@@ -15,6 +15,11 @@ INTERFACE = {
               "table_of_noes(many,family) noes_by(many,family) yeses_by(many,family)",
     "parts": "always_in(family,k) always_out(family,k) either(one,other) both(one,other) exchanged_set(order,one) "
              "exchanged(order,family)",
+    "heavier": "compared(many,family,x,y) turns(many,family) ranks(many,family)",
+    "votes": "weight_of(weights,one) voted(weights,bar) by_weights(many,family)",
+    "texts": "read_names(text) show_set(words,one) show_family(words,family) read_set(words,text) "
+             "read_family(words,text)",
+    "desk": "Desk(text)",
 }
 
 
@@ -27,6 +32,11 @@ class TestInterface(unittest.TestCase):
                 found = getattr(module, asked)
                 self.assertEqual(found.__module__, f"allhits.{name}", call)
                 self.assertEqual(list(signature(found).parameters), arguments.split(","), call)
+
+    def test_the_desk(self):
+        desk = import_module("allhits.desk")
+        self.assertIsInstance(desk.Desk, type)
+        self.assertEqual(list(signature(desk.Desk("a b").say).parameters), ["row"])
 
 
 if __name__ == "__main__":

@@ -8,8 +8,8 @@ from pathlib import Path
 
 PACKAGE = Path(__file__).resolve().parent.parent / "allhits"
 
-NODES = """Module FunctionDef ClassDef Return Assign AugAssign For While If Raise Try ExceptHandler ImportFrom alias Expr
-    Pass Break Continue BoolOp And Or BinOp Add Sub Mult FloorDiv Mod Pow LShift RShift BitOr BitXor BitAnd UnaryOp
+NODES = """Module FunctionDef ClassDef Return Assign AugAssign For While If Raise Try ExceptHandler ImportFrom alias
+    Expr Pass Break Continue BoolOp And Or BinOp Add Sub Mult FloorDiv Mod Pow LShift RShift BitOr BitXor BitAnd UnaryOp
     Invert Not USub UAdd Lambda IfExp Dict List Tuple Set ListComp comprehension Compare Eq NotEq Lt LtE Gt GtE Is IsNot
     In NotIn Call keyword FormattedValue JoinedStr Constant Attribute Subscript Slice Name Load Store arguments
     arg""".split()
@@ -24,6 +24,13 @@ BANNED_WORDS = """type typing typing_extensions enum Enum IntEnum StrEnum Flag I
 METHODS = """append clear copy count endswith extend find get index insert isalnum isalpha isdigit islower isspace
     isupper items join keys ljust lower lstrip partition pop remove replace reverse rfind rjust rpartition rsplit rstrip
     setdefault split splitlines startswith strip update upper values zfill bit_length""".split()
+
+KEYWORDS = {"sorted": ["key", "reverse"], "min": ["key", "default"], "max": ["key", "default"], "sum": ["start"],
+            "enumerate": ["start"], "zip": ["strict"]}
+
+WALKED_AT_ONCE = ["zip", "enumerate", "reversed", "range", "items", "keys", "values"]
+
+WALKERS = ["list", "tuple", "dict", "sorted", "sum", "any", "all", "enumerate", "zip", "min", "max"]
 
 TWO_UNDERSCORES = ["__init__", "__eq__", "__repr__", "__str__", "__len__", "__all__", "__version__"]
 
@@ -45,6 +52,23 @@ def bound_names(tree):
             yield node.arg, node.lineno
         elif isinstance(node, ast.Name) and isinstance(node.ctx, ast.Store):
             yield node.id, node.lineno
+
+
+def called(node):
+    """The name by which something is called, or None where nothing is."""
+    if not isinstance(node, ast.Call):
+        return None
+    return node.func.attr if isinstance(node.func, ast.Attribute) else getattr(node.func, "id", None)
+
+
+def with_parents(tree):
+    for parent in ast.walk(tree):
+        for node in ast.iter_child_nodes(parent):
+            yield parent, node
+
+
+def walks(parent, node):
+    return isinstance(parent, (ast.For, ast.comprehension)) and parent.iter is node
 
 
 class TestLanguage(unittest.TestCase):
@@ -145,6 +169,72 @@ class TestLanguage(unittest.TestCase):
             for node in ast.walk(tree):
                 if isinstance(node, ast.Name) and node.id not in own and node.id in dir(builtins):
                     self.assertIn(node.id, BUILT_IN, (name, node.lineno))
+
+    def test_errors_are_made_on_the_spot_and_taken_by_name(self):
+        for name, tree in trees():
+            for node in ast.walk(tree):
+                if isinstance(node, ast.Raise):
+                    self.assertIsInstance(node.exc, ast.Call, (name, node.lineno))
+                if isinstance(node, ast.ExceptHandler):
+                    self.assertIsNotNone(node.type, (name, node.lineno))
+                    self.assertNotIn(ast.unparse(node.type), ["Exception", "TypeError"], (name, node.lineno))
+
+    def test_keywords(self):
+        for name, tree in trees():
+            for node in ast.walk(tree):
+                for keyword in node.keywords if isinstance(node, ast.Call) else []:
+                    self.assertIn(keyword.arg, KEYWORDS.get(called(node), []), (name, node.lineno))
+
+    def test_what_is_walked_at_once(self):
+        for name, tree in trees():
+            for parent, node in with_parents(tree):
+                if called(node) in WALKED_AT_ONCE:
+                    self.assertTrue(walks(parent, node) or called(parent) in WALKERS, (name, node.lineno))
+
+    def test_sets_are_neither_kept_nor_walked(self):
+        for name, tree in trees():
+            for parent, node in with_parents(tree):
+                if called(node) in ("set", "frozenset") or isinstance(node, ast.Set):
+                    right = called(parent) in ("sorted", "len") and not parent.keywords
+                    self.assertTrue(right or isinstance(parent, (ast.Compare, ast.BinOp)), (name, node.lineno))
+
+    def test_what_stands_at_the_top_of_a_file(self):
+        for name, tree in trees():
+            given = [node for node in tree.body if isinstance(node, ast.Assign)]
+            for node in tree.body[1:]:
+                where = (name, node.lineno)
+                self.assertIsInstance(node, (ast.ImportFrom, ast.FunctionDef, ast.ClassDef, ast.Assign), where)
+            for node in given:
+                inner = [part for part in ast.walk(node.value)
+                         if part is not node.value and isinstance(part, (ast.List, ast.Dict))]
+                self.assertEqual(inner, [], (name, node.lineno))
+            bound = [node.targets[0].id for node in given]
+            bound.extend(node.name for node in tree.body if isinstance(node, (ast.FunctionDef, ast.ClassDef)))
+            self.assertEqual(len(set(bound)), len(bound), name)
+
+    def test_lists_and_dicts_of_the_top_are_only_read(self):
+        for name, tree in trees():
+            top = [node.targets[0].id for node in tree.body
+                   if isinstance(node, ast.Assign) and isinstance(node.value, (ast.List, ast.Dict))]
+            for parent, node in with_parents(tree):
+                if isinstance(node, ast.Name) and isinstance(node.ctx, ast.Load) and node.id in top:
+                    read = isinstance(parent, ast.Subscript) and isinstance(parent.ctx, ast.Load)
+                    read = read or isinstance(parent, ast.Compare) or called(parent) in ("len", "list", "dict")
+                    self.assertTrue(read or walks(parent, node), (name, node.lineno))
+
+    def test_no_name_is_a_method_and_a_value(self):
+        nodes = [node for name, tree in trees() for node in ast.walk(tree)]
+        values = {node.attr for node in nodes if isinstance(node, ast.Attribute) and isinstance(node.ctx, ast.Store)}
+        methods = [part.name for node in nodes if isinstance(node, ast.ClassDef)
+                   for part in node.body if isinstance(part, ast.FunctionDef)]
+        self.assertEqual(values & set(methods), set())
+        self.assertEqual(values & set(METHODS), set())
+
+    def test_texts(self):
+        for name, tree in trees():
+            for node in ast.walk(tree):
+                if isinstance(node, ast.Constant) and isinstance(node.value, str):
+                    self.assertNotIn("%", node.value, (name, node.lineno))
 
 
 if __name__ == "__main__":
